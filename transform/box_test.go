@@ -95,14 +95,14 @@ func TestGridEnclosure(t *testing.T) {
 // bits is the precision of the factors that the tests compute by themselves.
 const bits = 200
 
-// root returns the square root of a real number from 0 to 1, but for an error below 2^-90.
+// root returns the square root of a real number from 0 to 1, to about as many bits.
 func root(a num.Num) num.Num {
+	if !a.Clear() {
+		return a
+	}
 	r := num.Int(1)
-	for range 120 {
-		q, e := a.Div(r)
-		if e != api.OK {
-			return r
-		}
+	for range 20 {
+		q, _ := a.Div(r)
 		r = r.Add(q).Mul(fraction(1, 2)).Floor(bits)
 	}
 	return r
@@ -128,11 +128,19 @@ func nearFactors(n int) []num.Num {
 	return w
 }
 
-// isNear reports whether a box has a number that differs from x by at most 2^-70 in each part.
-func isNear(b box.Box, x num.Num) bool {
-	w, _ := box.Make(complex(-0x1p-70, -0x1p-70), complex(0x1p-70, 0x1p-70))
-	_, ok := w.Add(w.Of(x)).Meet(b)
-	return ok
+// isNear reports whether a box has a number that differs from x by at most 1e-45 in each part.
+func isNear(t testing.TB, b box.Box, x num.Num) bool {
+	t.Helper()
+	re, im := b.Parts()
+	tolerance := parse(t, "1e-45")
+	near := func(s box.Span, p num.Num) bool {
+		lo, hi := s.Ends()
+		// An end without bounds gives 0 and an error.
+		low, e := num.Complex(complex(lo, 0))
+		high, f := num.Complex(complex(hi, 0))
+		return (e != api.OK || low.Cmp(p.Add(tolerance)) <= 0) && (f != api.OK || p.Sub(tolerance).Cmp(high) <= 0)
+	}
+	return near(re, x.Re()) && near(im, x.Im())
 }
 
 // TestNearFactors tests the factors that the tests compute, and compares those of Roots with them.
@@ -140,11 +148,11 @@ func TestNearFactors(t *testing.T) {
 	for _, n := range lengths {
 		w, near := roots(t, n), nearFactors(n)
 		last := near[n-1].Mul(near[1%n])
-		if !isNear(box.Box{}.Of(num.Int(1)), last) {
+		if !isNear(t, box.Box{}.Of(num.Int(1)), last) {
 			t.Errorf("the factor %d of %d: %v", n, n, last.Near())
 		}
 		for k := range w {
-			if !isNear(w[k], near[k]) {
+			if !isNear(t, w[k], near[k]) {
 				t.Errorf("Roots of %d, %d: %v, %v, not near %v", n, k, w[k].Lo(), w[k].Hi(), near[k].Near())
 			}
 		}
@@ -168,7 +176,7 @@ func TestTransformsOfBoxes(t *testing.T) {
 			for k := range n {
 				y := definition(x, near, k)
 				z := definition(x, conj, k).Mul(fraction(1, n))
-				if !isNear(forward[k], y) || !isNear(fast[k], y) || !isNear(back[k], z) || !isNear(fastBack[k], z) {
+				if !isNear(t, forward[k], y) || !isNear(t, fast[k], y) || !isNear(t, back[k], z) || !isNear(t, fastBack[k], z) {
 					t.Errorf("element %d of %d: a transform is %v, the inverse one %v", k, n, y.Near(), z.Near())
 				}
 				if _, ok := forward[k].Meet(fast[k]); !ok {
