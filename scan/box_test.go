@@ -142,34 +142,31 @@ func spread[T any](t testing.TB, g [][]T, down, across int, f func() T) [][]T {
 // TestFieldsOfBoxes is P8.5 for all lengths. A field that is repeated has the modes of the part that is repeated, with all others between them 0: so the exact results are those of the part.
 func TestFieldsOfBoxes(t *testing.T) {
 	d := dice(18)
-	for _, c := range [][2]int{{1, 1}, {1, 2}, {2, 1}, {2, 4}, {16, 1}, {1, 16}, {4, 16}} {
-		for range 3 {
-			part, weights, keep := d.grid(t, 4, 4), d.weights(t, 4, 4), d.flags(t, 4, 4)
-			g := made(t, repeated(t, cells(part), c[0], c[1]))
-			boxG := d.boxGrid(t, g)
-			weightBox := made(t, spread(t, cells(d.boxGrid(t, weights)), c[0], c[1], func() box.Box { return d.box(d.clear()) }))
-			keepAll := made(t, spread(t, cells(keep), c[0], c[1], func() bool { return d.below(2) == 0 }))
-			w, v := roots(t, 4*c[1]), roots(t, 4*c[0])
-			all := func(g grid) grid {
-				if rows, _ := g.Size(); rows == 0 {
-					return g
-				}
-				return made(t, repeated(t, cells(g), c[0], c[1]))
-			}
-			h, e := scan.Carry(part, factors(t, 4), factors(t, 4), weights, keep)
-			b, f := scan.Carry(boxG, w, v, weightBox, keepAll)
+	for _, size := range [][2]int{{1, 1}, {1, 2}, {2, 1}, {4, 4}, {4, 8}, {8, 4}, {8, 16}, {16, 1}, {32, 2}, {2, 32}, {64, 4}, {1, 64}, {16, 64}} {
+		for range 2 {
+			rows, cols := min(size[0], 4), min(size[1], 4)
+			down, across := size[0]/rows, size[1]/cols
+			part, weights, keep := d.grid(t, rows, cols), d.weights(t, rows, cols), d.flags(t, rows, cols)
+			all := func(g grid) grid { return made(t, repeated(t, cells(g), down, across)) }
+			boxG := d.boxGrid(t, all(part))
+			weightBox := made(t, spread(t, cells(d.boxGrid(t, weights)), down, across, func() box.Box { return d.box(d.clear()) }))
+			keepAll := made(t, spread(t, cells(keep), down, across, func() bool { return d.below(2) == 0 }))
+			w, v := factors(t, cols), factors(t, rows)
+			wBox, vBox := roots(t, size[1]), roots(t, size[0])
+			h, e := scan.Carry(part, w, v, weights, keep)
+			b, f := scan.Carry(boxG, wBox, vBox, weightBox, keepAll)
 			gridEncloses(t, "Carry", b, f, all(h), e)
-			h, e = scan.Recover(part, factors(t, 4), factors(t, 4), weights, keep)
-			b, f = scan.Recover(boxG, w, v, weightBox, keepAll)
+			h, e = scan.Recover(part, w, v, weights, keep)
+			b, f = scan.Recover(boxG, wBox, vBox, weightBox, keepAll)
 			if isClear(t, weightBox, keepAll) {
 				gridEncloses(t, "Recover", b, f, all(h), e)
 			} else {
 				noGrid(t, "Recover", b, f, api.ErrZero)
 			}
-			x, e := scan.LeftOut(part, factors(t, 4), factors(t, 4), keep)
-			y, f := scan.LeftOut(boxG, w, v, keepAll)
+			x, e := scan.LeftOut(part, w, v, keep)
+			y, f := scan.LeftOut(boxG, wBox, vBox, keepAll)
 			code(t, "LeftOut", e == api.OK, f, api.OK)
-			encloses(t, "LeftOut", y, x.Mul(num.Int(int64(c[0]*c[1]))))
+			encloses(t, "LeftOut", y, x.Mul(num.Int(int64(down*across))))
 		}
 	}
 }
