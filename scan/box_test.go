@@ -146,10 +146,13 @@ func TestFieldsOfBoxes(t *testing.T) {
 		for range 2 {
 			rows, cols := min(size[0], 4), min(size[1], 4)
 			down, across := size[0]/rows, size[1]/cols
-			part, weights, keep := d.grid(t, rows, cols), d.weights(t, rows, cols), d.flags(t, rows, cols)
+			part, keep := d.grid(t, rows, cols), d.flags(t, rows, cols)
+			// The boxes around these weights do not reach to 0.
+			far := func() num.Num { return num.Int(12).Add(d.small()) }
+			weights := filled(t, rows, cols, func(i, j int) num.Num { return far() })
 			all := func(g grid) grid { return made(t, repeated(t, cells(g), down, across)) }
 			boxG := d.boxGrid(t, all(part))
-			weightBox := made(t, spread(t, cells(d.boxGrid(t, weights)), down, across, func() box.Box { return d.box(d.clear()) }))
+			weightBox := made(t, spread(t, cells(d.boxGrid(t, weights)), down, across, func() box.Box { return d.box(far()) }))
 			keepAll := made(t, spread(t, cells(keep), down, across, func() bool { return d.below(2) == 0 }))
 			w, v := factors(t, cols), factors(t, rows)
 			wBox, vBox := roots(t, size[1]), roots(t, size[0])
@@ -158,11 +161,7 @@ func TestFieldsOfBoxes(t *testing.T) {
 			gridEncloses(t, "Carry", b, f, all(h), e)
 			h, e = scan.Recover(part, w, v, weights, keep)
 			b, f = scan.Recover(boxG, wBox, vBox, weightBox, keepAll)
-			if isClear(t, weightBox, keepAll) {
-				gridEncloses(t, "Recover", b, f, all(h), e)
-			} else {
-				noGrid(t, "Recover", b, f, api.ErrZero)
-			}
+			gridEncloses(t, "Recover", b, f, all(h), e)
 			x, e := scan.LeftOut(part, w, v, keep)
 			y, f := scan.LeftOut(boxG, wBox, vBox, keepAll)
 			code(t, "LeftOut", e == api.OK, f, api.OK)
